@@ -1,0 +1,1 @@
+"""Roundlap: rounds of a loop laid over one another."""
