@@ -52,6 +52,15 @@ def names_bound(tree):
     return found
 
 
+def values_set(tree):
+    """The values that objects are given through self."""
+    found = set()
+    for node in ast.walk(tree):
+        if isinstance(node, ast.Attribute) and isinstance(node.ctx, ast.Store):
+            found.add(node.attr)
+    return found
+
+
 class FormTest(unittest.TestCase):
     def setUp(self):
         self.texts = {path.name: path.read_text(encoding="utf-8") for path in sorted(PACKAGE.glob("*.py"))}
@@ -128,9 +137,38 @@ class FormTest(unittest.TestCase):
     def test_methods(self):
         own = set()
         for tree in self.trees.values():
-            own |= names_bound(tree)
+            own |= names_bound(tree) | values_set(tree)
         for place, node in self.nodes(ast.Attribute):
             self.assertIn(node.attr, own | METHODS, place)
+
+    def test_values_of_objects(self):
+        for name, tree in self.trees.items():
+            for word in values_set(tree):
+                self.assertRegex(word, r"^[a-z][a-z0-9_]*$", name)
+                for kind in (str, int, list, dict, set, bytes):
+                    self.assertFalse(hasattr(kind, word), f"{name}: {word}")
+            for node in ast.walk(tree):
+                if isinstance(node, ast.Attribute) and isinstance(node.ctx, ast.Store):
+                    self.assertEqual(getattr(node.value, "id", None), "self", f"{name}:{node.lineno}")
+
+    def test_names_that_are_not_used(self):
+        no_names = set("register mro elements open input version_info with_traceback add_note".split())
+        for name, tree in self.trees.items():
+            used = {node.attr for node in ast.walk(tree) if isinstance(node, ast.Attribute)}
+            used |= {node.id for node in ast.walk(tree) if isinstance(node, ast.Name)} | names_bound(tree)
+            self.assertEqual(used & no_names, set(), name)
+
+    def test_no_two_files_draw_from_one_another(self):
+        drawn = {}
+        for name, tree in self.trees.items():
+            rows = [node for node in tree.body if isinstance(node, ast.ImportFrom)]
+            drawn[name] = {row.module.partition(".")[2] + ".py" for row in rows}
+        for name in drawn:
+            reached, grown = set(), set(drawn[name])
+            while grown - reached:
+                reached |= grown
+                grown = set().union(*[drawn[other] for other in reached])
+            self.assertNotIn(name, reached)
 
     def test_a_set_stands_beside_in_or_within_sorted_or_len(self):
         allowed = set()
