@@ -157,3 +157,118 @@ def plain_boxes(loop, gap, plan):
             many += 1
         told.append(many)
     return tuple(told)
+
+
+WORDS = ("plus", "less", "times", "least", "greatest")
+
+
+def dressed(chance, loop, streams=None):
+    """The loop with other words, starts and outs, and with streams that some sources take from."""
+    streams = chance.randint(0, 6) if streams is None else streams
+    works = []
+    for crew, long, doing, sources, starts in loop[2]:
+        starts = tuple([chance.randint(0, 9972) for k in range(3)])
+        sources = tuple([other_source(chance, source, streams) for source in sources])
+        works.append((crew, long, chance.choice(WORDS), sources, starts))
+    outs = sorted(chance.sample(range(len(works)), chance.randint(1, len(works))))
+    return (streams, loop[1], tuple(works), tuple(outs))
+
+
+def other_source(chance, source, streams):
+    if streams > 0 and chance.random() < 0.3:
+        return ("input", chance.randrange(streams))
+    return ("value", chance.randint(0, 9972)) if source[0] == "value" else source
+
+
+def dressed_loops(seed, many, least_works, most_works, most_long=8, streams=None):
+    chance = random.Random(seed)
+    for number in range(many):
+        yield dressed(chance, loop_at_random(chance, chance.randint(least_works, most_works), most_long), streams)
+
+
+def inputs_at_random(chance, streams, rounds):
+    return [tuple([chance.randint(0, 9972) for k in range(streams)]) for number in range(rounds)]
+
+
+def is_good(loop, gap, plan):
+    return max(plan) <= 999 and keeps_needs(loop, gap, plan) and not is_crowded(loop, gap, [t % gap for t in plan])
+
+
+def moved_plans(chance, loop, gap, plan, many):
+    """Good plans that come of a good plan by beginning some works whole gaps later, and all of them later."""
+    found = [plan]
+    for number in range(many):
+        other = tuple([begin + gap * chance.randrange(5) for begin in plan])
+        late = chance.choice((0, 0, 1, gap, 2 * gap + 1))
+        other = tuple([begin + late for begin in other])
+        if is_good(loop, gap, other):
+            found.append(other)
+    return found
+
+
+def plain_laid(gap, plan, rounds):
+    """Asked at each time of each work and round whether it begins then."""
+    if rounds == 0:
+        return []
+    last = (rounds - 1) * gap + max(plan)
+    told = []
+    for time in range(max(last + 1, rounds * gap)):
+        told.append(tuple([(own, number) for own in range(len(plan)) for number in range(rounds)
+                           if number * gap + plan[own] == time]))
+    return told
+
+
+def plain_run(loop, gap, plan, boxes, inputs):
+    """What the machine tells, found backwards: of which round is what a box holds when it is looked into."""
+    found = {}
+
+    def there(own, number):
+        return number * gap + plan[own] + loop[2][own][1]
+
+    def held(own, box, time):
+        rounds = [n for n in range(-3, len(inputs)) if n % boxes[own] == box and there(own, n) <= time]
+        # At time 0 and later: of several that have been put in it is the latest one.
+        if not rounds:
+            return 0
+        return loop[2][own][4][-1 - rounds[-1]] if rounds[-1] < 0 else answer(own, rounds[-1])
+
+    def taken(source, number, time):
+        if source[0] == "work":
+            return held(source[1], (number - source[2]) % boxes[source[1]], time)
+        return source[1] if source[0] == "value" else inputs[number][source[1]]
+
+    def answer(own, number):
+        if (own, number) not in found:
+            values = [taken(source, number, number * gap + plan[own]) for source in loop[2][own][3]]
+            found[own, number] = plain_outcome(loop[2][own][2], values)
+        return found[own, number]
+
+    # Every work of a round, in the order of the times, so that no answer is asked through many others.
+    for time, own, number in sorted([(n * gap + plan[k], k, n) for k in range(len(plan)) for n in range(len(inputs))]):
+        answer(own, number)
+    return [tuple([found[own, number] for own in loop[3]]) for number in range(len(inputs))]
+
+
+def plain_outcome(doing, values):
+    if doing == "least":
+        return sorted(values)[0]
+    if doing == "greatest":
+        return sorted(values)[-1]
+    told = values[0]
+    for value in values[1:]:
+        told = {"plus": told + value, "less": told - value, "times": told * value}[doing]
+    return told % 9973
+
+
+def plain_text(thing):
+    """A loop, or what is nearly one, written down."""
+    streams, crews, works, outs = thing
+    text = f"streams {streams}\n"
+    for many, busy in crews:
+        text += f"crew {many} {busy}\n"
+    for crew, long, doing, sources, starts in works:
+        text += f"work {crew} {long} {doing}"
+        for source in sources:
+            text += {"value": " {1}", "input": " i{1}", "work": " w{1}-{2}"}[source[0]].format(*source)
+        text += " /" + "".join([f" {start}" for start in starts]) + "\n"
+    return text + "outs" + "".join([f" {number}" for number in outs]) + "\n"

@@ -6,18 +6,34 @@ import unittest
 
 from roundlap.bars import crew_gap, crowd, is_bar, ring, ring_gap
 from roundlap.boxes import least_boxes, too_few
-from roundlap.errors import LapError, NoBoxes, NoGap, NoLoop, NoPlan
+from roundlap.errors import LapError, NoBoxes, NoGap, NoInputs, NoLoop, NoPlan, NoRounds, NoText
+from roundlap.laying import height, laid, parts
+from roundlap.loops import checked, needs
+from roundlap.machine import run
 from roundlap.plans import plainly, wrong
 from roundlap.seeking import a_plan, shortest
+from roundlap.texts import read, shown
+from roundlap.unrolling import unrolled
+from roundlap.values import answers
+from tests.oracles import plain_text
 from tests.samples import LOOP, STRANGE, Hostile, loop_of, rebuilt, replaced, work
 
 # Each is good by the others: a loop of three works, its gap, plan and boxes.
-GIVEN = {"loop": LOOP, "gap": 5, "plan": (0, 3, 7), "good plan": (0, 3, 7), "boxes": (1, 1, 3), "thing": [(0, 1, 0)]}
+GIVEN = {
+    "loop": LOOP, "gap": 5, "plan": (0, 3, 7), "good plan": (0, 3, 7), "boxes": (1, 1, 3), "thing": [(0, 1, 0)],
+    "rounds": 3, "times": 2, "inputs": [(1, 2), (3, 4), (5, 6)], "text": plain_text(LOOP),
+}
 
 # A name that stands nowhere among the errors is of any kind.
-ERRORS = {"loop": NoLoop, "gap": NoGap, "plan": NoPlan, "good plan": NoPlan, "boxes": NoBoxes}
+ERRORS = {
+    "loop": NoLoop, "gap": NoGap, "plan": NoPlan, "good plan": NoPlan, "boxes": NoBoxes, "rounds": NoRounds,
+    "times": NoRounds, "inputs": NoInputs, "text": NoText,
+}
 
 FUNCTIONS = [
+    (checked, ["loop"]),
+    (needs, ["loop"]),
+    (answers, ["loop", "inputs"]),
     (wrong, ["loop", "gap", "plan"]),
     (plainly, ["loop"]),
     (ring, ["loop", "gap"]),
@@ -29,6 +45,13 @@ FUNCTIONS = [
     (shortest, ["loop"]),
     (least_boxes, ["loop", "gap", "good plan"]),
     (too_few, ["loop", "gap", "good plan", "boxes"]),
+    (laid, ["loop", "gap", "good plan", "rounds"]),
+    (height, ["loop", "gap", "good plan"]),
+    (parts, ["loop", "gap", "good plan"]),
+    (run, ["loop", "gap", "good plan", "boxes", "inputs"]),
+    (unrolled, ["loop", "times"]),
+    (shown, ["loop"]),
+    (read, ["text"]),
 ]
 
 ENDLESS = []
@@ -39,6 +62,18 @@ WRONG_LOOPS = STRANGE + [
     replaced(LOOP, (2,), ()), replaced(LOOP, (2, 0, 1), 9), replaced(LOOP, (1, 0, 1), 5), ENDLESS,
 ]
 WRONG_GAPS = STRANGE + [0, 201, -1, -5, True, False, "5", [5], (5,), 5.0, 10 ** 30, -(10 ** 30), LOOP, ENDLESS]
+
+
+WRONG_NUMBERS = STRANGE + [True, False, "2", [2], (2,), 2.0, 3.0, 10 ** 30, -(10 ** 30), LOOP, ENDLESS]
+
+
+def wrong_inputs():
+    """Things that are no inputs of two streams; an empty list is such of no rounds."""
+    found = [thing for thing in STRANGE if not (isinstance(thing, list) and len(thing) == 0)]
+    found += [2, True, ((1, 2),), [(1, 2)] * 41, [()], [(1,)], [(1, 2, 3)], [[1, 2]], [(1, 2), None], [(1, 2), (3,)], ENDLESS]
+    for thing in STRANGE + [-1, 9973, True, False, "1", 10 ** 30]:
+        found += [[(thing, 2)], [(1, 2), (1, thing)], [thing, (1, 2)]]
+    return found
 
 
 def rows_with(least, most):
@@ -58,6 +93,10 @@ WRONG = {
     # The last ones are plans, but not good: needs are not kept, or a crew is crowded.
     "good plan": rows_with(0, 999) + [(0, 2, 7), (0, 0, 0), (0, 3, 3), (0, 3, 5), (0, 3, 6), (999, 0, 0)],
     "boxes": rows_with(1, 999),
+    "rounds": WRONG_NUMBERS + [-1, 41],
+    "times": WRONG_NUMBERS + [-1, 0, 1, 4, 5],
+    "inputs": wrong_inputs(),
+    "text": STRANGE + [0, True, LOOP, ENDLESS, plain_text(LOOP).encode(), [plain_text(LOOP)], plain_text(LOOP)[:-1], "streams 0"],
 }
 
 
@@ -152,12 +191,28 @@ class HandedInTest(unittest.TestCase):
                 self.assertEqual(function(*others), kept)
                 self.assertEqual(first, kept)
 
+    def test_lists_are_new_ones_each_time(self):
+        for function, names in FUNCTIONS:
+            arguments = [GIVEN[name] for name in names]
+            told = function(*arguments)
+            kept = copy.deepcopy(told)
+            for thing in told if isinstance(told, tuple) else (told,):
+                if isinstance(thing, list):
+                    thing.append("more")
+            with self.subTest(function.__name__):
+                self.assertEqual(function(*arguments), kept)
+
     def test_what_is_refused_is_the_same_afterwards(self):
         plan, boxes, loop = [0, 3, 7], [1, 1, 3], list(LOOP)
         for call in (lambda: wrong(LOOP, 5, plan), lambda: too_few(LOOP, 5, (0, 3, 7), boxes), lambda: ring(loop, 5)):
             with self.assertRaises(LapError):
                 call()
         self.assertEqual((plan, boxes, loop), ([0, 3, 7], [1, 1, 3], list(LOOP)))
+        inputs = [(1, 2), [3, 4], (5,)]
+        for call in (lambda: run(LOOP, 5, (0, 3, 7), (1, 1, 3), inputs), lambda: answers(LOOP, inputs)):
+            with self.assertRaises(NoInputs):
+                call()
+        self.assertEqual(inputs, [(1, 2), [3, 4], (5,)])
 
 
 if __name__ == "__main__":
